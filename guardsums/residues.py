@@ -1,12 +1,15 @@
 """Numbers modulo M: what undoes a number, and the primes of a number."""
 
-from math import isqrt
+from math import gcd, isqrt
 
 from guardsums.errors import BadModulus
 from guardsums.values import is_integer
 
-# Up to here a number is taken apart by trying divisors up to its root.
 MOST = 10 ** 12
+# Divisors are tried up to here: beyond the third root of MOST, so what is left then has two primes at most.
+TRIED = 20000
+# Below 2,152,302,898,747 no composite number is passed by all of these (Jaeschke, 1993).
+BASES = (2, 3, 5, 7, 11)
 
 
 def inverse(number, modulus):
@@ -28,20 +31,82 @@ def primes(number):
     if not is_integer(number) or number < 2 or number > MOST:
         raise BadModulus(number)
     found = []
-    rest = number
-    while rest > 1:
-        prime = least_prime(rest)
+    rest = without(number, 2, found)
+    for divisor in range(3, TRIED, 2):
+        if divisor * divisor > rest:
+            break
+        if rest % divisor == 0:
+            rest = without(rest, divisor, found)
+    return tuple(found + great_primes(rest))
+
+
+def without(number, prime, found):
+    """The number without all of this prime in it; the prime is added to found if it is in it."""
+    if number % prime == 0:
         found.append(prime)
-        while rest % prime == 0:
-            rest = rest // prime
-    return tuple(found)
+    while number % prime == 0:
+        number = number // prime
+    return number
 
 
-def least_prime(number):
-    """The least prime that divides an integer from 2 on."""
-    if number % 2 == 0:
-        return 2
-    for divisor in range(3, isqrt(number) + 1, 2):
-        if number % divisor == 0:
-            return divisor
+def great_primes(number):
+    """The list of the primes of a number that no divisor from 2 to TRIED or to its root divides."""
+    if number == 1:
+        return []
+    if number < TRIED * TRIED or is_great_prime(number):
+        return [number]
+    least = least_of_two(number)
+    if least * least == number:
+        return [least]
+    return [least, number // least]
+
+
+def is_great_prime(number):
+    """Whether an odd number from TRIED to MOST is a prime."""
+    odd, halvings = number - 1, 0
+    while odd % 2 == 0:
+        odd = odd // 2
+        halvings = halvings + 1
+    for base in BASES:
+        if not passes(number, base, odd, halvings):
+            return False
+    return True
+
+
+def passes(number, base, odd, halvings):
+    """Whether squaring base ** odd so often reaches 1 modulo number as it must modulo a prime."""
+    power = 1
+    while odd > 0:
+        if odd % 2 == 1:
+            power = power * base % number
+        base = base * base % number
+        odd = odd // 2
+    if power == 1:
+        return True
+    for _ in range(halvings):
+        if power == number - 1:
+            return True
+        power = power * power % number
+    return False
+
+
+def least_of_two(number):
+    """The least prime of the product of two primes above TRIED."""
+    # Lehman, 1974: for one of these multiples, 4 * multiple * number is the difference of two squares, the
+    # root of the greater one being in these ranges; no more of them need be tried.
+    most = number // (TRIED * TRIED)
+    for multiple in range(1, most + 1):
+        fourfold = 4 * multiple * number
+        first = isqrt(fourfold - 1) + 1
+        last = first + isqrt(number // multiple) // (4 * (most + 1)) + 1
+        if multiple % 2 == 0:
+            first, step = first + (first + 1) % 2, 2
+        else:
+            first, step = first + (multiple + number - first) % 4, 4
+        for root in range(first, last + 1, step):
+            square = root * root - fourfold
+            other = isqrt(square)
+            if other * other == square:
+                prime = gcd(root + other, number)
+                return min(prime, number // prime)
     return number

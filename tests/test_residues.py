@@ -1,14 +1,27 @@
 """Point 6: numbers modulo M."""
 
+import time
 import unittest
-from math import gcd
+from math import gcd, isqrt
 
 from guardsums import residues
 from guardsums.errors import BadModulus
 from guardsums.ratios import Ratio
-from guardsums.residues import inverse, primes
+from guardsums.residues import TRIED, inverse, primes
 
 FORTY = 10 ** 39 + 7
+
+
+def by_trial(number):
+    """The primes of a number, by trying all divisors up to its root."""
+    found, rest, divisor = [], number, 2
+    while divisor <= isqrt(rest):
+        if rest % divisor == 0:
+            found.append(divisor)
+            while rest % divisor == 0:
+                rest //= divisor
+        divisor += 1
+    return tuple(found + [rest] * (rest > 1))
 
 
 class Inverse(unittest.TestCase):
@@ -102,6 +115,63 @@ class Primes(unittest.TestCase):
                 while rest % prime == 0:
                     rest //= prime
             self.assertEqual(rest, 1)
+
+    def test_greatest_prime_above_a_million(self):
+        for number, wanted in [
+            (1000003, (1000003,)), (2 * 1000003, (2, 1000003)), (997 * 1000003, (997, 1000003)),
+            (999961 * 1000003, (999961, 1000003)), (2 ** 18 * 1000003, (2, 1000003)), (7 ** 2 * 1000003, (7, 1000003)),
+            (20011 * 49972511, None), (19997 * 50007499, None), (3 * 5 * 66666666613, None),
+        ]:
+            self.assertEqual(primes(number), wanted or by_trial(number), number)
+
+    def test_around_the_last_tried_divisor(self):
+        near = [number for number in range(TRIED - 150, TRIED + 150) if by_trial(number) == (number,)]
+        self.assertTrue(near[0] < TRIED < near[-1])
+        for one in near:
+            for other in near:
+                self.assertEqual(primes(one * other), tuple(sorted({one, other})))
+                self.assertEqual(primes(one * other * 2), tuple(sorted({2, one, other})))
+
+    def test_two_great_primes(self):
+        # Ratios of all kinds between two primes above the last tried divisor, the greatest ones too.
+        for least in (20011, 20021, 25013, 33331, 54323, 99991, 123457, 314159, 500009, 707111, 900001, 999983):
+            for most in (10 ** 12 // least, 3 * 10 ** 11 // least, 2 * least, least + 1000, 7 * least // 5):
+                greatest = max(number for number in range(most - 400, most) if by_trial(number) == (number,))
+                if least * greatest <= 10 ** 12:
+                    self.assertEqual(primes(least * greatest), tuple(sorted({least, greatest})))
+
+    def test_squares_of_primes(self):
+        for prime in (2, 3, 5, 7, 97, 9973, 19997, 20011, 54323, 314159, 707111, 999979, 999983):
+            self.assertEqual(primes(prime ** 2), (prime,))
+            self.assertEqual(primes(prime ** 2 - 1), by_trial(prime ** 2 - 1))
+
+    def test_composites_that_pass_for_primes(self):
+        # Products of p and 2 p - 1 are those that pass a single test for primes most often.
+        many = 0
+        for prime in range(20011, 60000, 2):
+            if by_trial(prime) == (prime,) and by_trial(2 * prime - 1) == (2 * prime - 1,):
+                self.assertEqual(primes(prime * (2 * prime - 1)), (prime, 2 * prime - 1))
+                many += 1
+        self.assertGreater(many, 100)
+
+    def test_stretches(self):
+        for first in (TRIED ** 2 - 60, 10 ** 10 - 60, 5 * 10 ** 11, 10 ** 12 - 60):
+            for number in range(first, first + 61):
+                told = primes(number)
+                self.assertEqual(list(told), sorted(set(told)))
+                rest = number
+                for prime in told:
+                    self.assertEqual((rest % prime, by_trial(prime)), (0, (prime,)))
+                    while rest % prime == 0:
+                        rest //= prime
+                self.assertEqual(rest, 1)
+
+    def test_slowest_in_good_time(self):
+        ahead = time.process_time()
+        for number in (999968573027, 999992335747, 999997690547, 999983238509, 999967917583) * 20:
+            self.assertEqual(len(primes(number)), 2)
+        # Half a million divisions a call would take more than two seconds here.
+        self.assertLess(time.process_time() - ahead, 1.5)
 
     def test_other_values(self):
         deep = {"A": [(1, [None])]}
