@@ -5,7 +5,7 @@ import inspect
 import unittest
 
 from guardsums import errors
-from guardsums.ratios import Ratio
+from tests.support import any_values
 
 FIELDS = {
     "BadModulus": ("number",), "NotUndone": (), "TooMany": ("what", "many", "most"), "BadKind": ("kind",),
@@ -15,15 +15,6 @@ FIELDS = {
     "BadNumber": ("number",), "BadMending": (), "Ring": ("name",), "NoRule": ("root",), "BadPlace": ("place",),
     "BadChange": ("index",), "BadTold": (), "BadSample": ("index",), "OtherGuard": (),
 }
-
-
-def any_values():
-    """New values of every kind that "any value" names."""
-    deep = []
-    for _ in range(9):
-        deep = [deep]
-    return [None, True, False, 0, -7, 10 ** 39, "", "numbers", (), (1, (2, None)), [], [1, [2]], {}, {"A": [(1,)]},
-            deep, Ratio(1, 2), errors.BadOver()]
 
 
 class Errors(unittest.TestCase):
