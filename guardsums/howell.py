@@ -9,7 +9,7 @@ class Ways:
     """There are solutions: one of them, and the howell form of all solutions for the wish 0."""
 
     def __init__(self, modulus, matrix, wish, one, kernel):
-        self.modulus = modulus
+        self.modulus = frozen(modulus)
         self.matrix = frozen(matrix)
         self.wish = frozen(wish)
         self.one = frozen(one)
@@ -20,7 +20,7 @@ class NoWay:
     """There is no solution: left times each column of the matrix is 0, left times wish is not."""
 
     def __init__(self, modulus, matrix, wish, left):
-        self.modulus = modulus
+        self.modulus = frozen(modulus)
         self.matrix = frozen(matrix)
         self.wish = frozen(wish)
         self.left = frozen(left)
@@ -30,7 +30,7 @@ class Faithful:
     """The matrix takes 0 alone to 0: the product of back with it is the identity."""
 
     def __init__(self, modulus, matrix, back):
-        self.modulus = modulus
+        self.modulus = frozen(modulus)
         self.matrix = frozen(matrix)
         self.back = frozen(back)
 
@@ -39,7 +39,7 @@ class Lost:
     """The matrix takes a row to 0 that is not all 0."""
 
     def __init__(self, modulus, matrix, row):
-        self.modulus = modulus
+        self.modulus = frozen(modulus)
         self.matrix = frozen(matrix)
         self.row = frozen(row)
 
