@@ -33,10 +33,10 @@ def plain_told(guard, block):
         raise BadBlock()
     length, distance, number = block
     turns = Turns(guard.modulus, guard.matrix)
-    parts = [guard.end, turns.act(turns.power(length), guard.start)]
+    parts = [guard.end, turns.act(turns.raised(length), guard.start)]
     if distance is not None:
         column = tuple([row[number] for row in guard.columns])
-        parts.append(turns.act(turns.power(distance), column))
+        parts.append(turns.act(turns.raised(distance), column))
     return tuple([sum(numbers) % guard.modulus for numbers in zip(*parts)])
 
 
@@ -47,8 +47,8 @@ def is_plain(value, width):
     length, distance, number = value
     if not is_integer(length) or length < 0:
         return False
-    if distance is None or number is None:
-        return distance is None and number is None
+    if distance is None:
+        return number is None
     return is_within(distance, 0, length - 1) and is_within(number, 0, width - 1)
 
 
@@ -127,7 +127,7 @@ def first_parting_zeros(one, other, first, step):
 def told_of_zeros(guard, first, step):
     """What is told of first + n * step zeros for the n from 0 to 2 k: enough, for the end adds one to 2 k."""
     turns = Turns(guard.modulus, guard.matrix)
-    state, further = turns.act(turns.power(first), guard.start), turns.power(step)
+    state, further = turns.act(turns.raised(first), guard.start), turns.raised(step)
     told = []
     for _ in range(2 * guard.size + 1):
         told.append(tuple([(number + more) % guard.modulus for number, more in zip(state, guard.end)]))

@@ -44,7 +44,7 @@ def told_changed(guard, block, changes):
     check_guard(guard, block)
     check_changes(block, changes)
     tally = Tally(guard, block.tree)
-    powers = tally.turns.powers([block.size - 1 - place for place, _ in changes])
+    powers = tally.turns.all_raised([block.size - 1 - place for place, _ in changes])
     for (place, symbol), factors in zip(changes, powers):
         old = block.tree.symbol_at(block.root, place)
         # What is told is linear: the difference adds its own.

@@ -41,7 +41,7 @@ class Tally:
         self.guard = guard
         self.tree = tree
         self.turns = Turns(guard.modulus, guard.matrix)
-        self.doubles = {SYMBOL: Doubles(self.turns, self.turns.power(1))}
+        self.doubles = {SYMBOL: Doubles(self.turns, self.turns.raised(1))}
         # For each key and place: the weight of 2 ** place times the part, a row of factors for each number of it.
         self.weights = {}
 

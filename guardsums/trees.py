@@ -117,7 +117,8 @@ def upward(lists):
     ready = [name for name in lists if missing[name] == 0]
     at = 0
     while at < len(ready):
-        for name in above[ready[at]]:
+        users = above[ready[at]]
+        for name in users:
             missing[name] = missing[name] - 1
             if missing[name] == 0:
                 ready.append(name)

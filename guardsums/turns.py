@@ -35,7 +35,7 @@ class Turns:
         """The factors of the product of two powers, the table of one, the factors of the other."""
         return applied(self.modulus, table, factors)
 
-    def power(self, exponent):
+    def raised(self, exponent):
         """The factors of A to an exponent from 0 on."""
         factors = self.none
         for bit in f"{exponent:b}":
@@ -44,11 +44,11 @@ class Turns:
                 factors = self.further(factors)
         return factors
 
-    def powers(self, exponents):
+    def all_raised(self, exponents):
         """The factors of A to each exponent of a list; the squares are reckoned once for all of them."""
         words = [low_first(exponent) for exponent in exponents]
         found = [self.none for _ in exponents]
-        square = self.power(1)
+        square = self.raised(1)
         for place in range(max([len(word) for word in words], default=0)):
             table = self.table(square)
             found = [self.multiplied(table, factors) if word[place:place + 1] == "1" else factors

@@ -43,21 +43,21 @@ class TurnsTest(unittest.TestCase):
             turns = Turns(modulus, matrix)
             row = random_matrix(source, modulus, 1, len(matrix))[0]
             exponents = [0, 1, 2, 3, len(matrix), 29, 10 ** 30, 10 ** 40 - 1]
-            for exponent, factors in zip(exponents, turns.powers(exponents)):
-                self.assertEqual(turns.power(exponent), factors)
+            for exponent, factors in zip(exponents, turns.all_raised(exponents)):
+                self.assertEqual(turns.raised(exponent), factors)
                 wanted = power(modulus, matrix, exponent)
                 self.assertEqual(added_up(modulus, matrix, factors), wanted)
                 self.assertEqual(turns.act(factors, row), applied(modulus, wanted, row))
-            self.assertEqual(turns.powers([]), [])
-            self.assertEqual(turns.powers([0, 0]), [turns.none, turns.none])
+            self.assertEqual(turns.all_raised([]), [])
+            self.assertEqual(turns.all_raised([0, 0]), [turns.none, turns.none])
 
     def test_products(self):
         for modulus, matrix, _ in self.cases():
             turns = Turns(modulus, matrix)
-            one, other = turns.power(10), turns.power(10 ** 9)
-            self.assertEqual(turns.multiplied(turns.table(one), other), turns.power(10 ** 9 + 10))
-            self.assertEqual(turns.multiplied(turns.table(other), one), turns.power(10 ** 9 + 10))
-            self.assertEqual(turns.further(one), turns.power(11))
+            one, other = turns.raised(10), turns.raised(10 ** 9)
+            self.assertEqual(turns.multiplied(turns.table(one), other), turns.raised(10 ** 9 + 10))
+            self.assertEqual(turns.multiplied(turns.table(other), one), turns.raised(10 ** 9 + 10))
+            self.assertEqual(turns.further(one), turns.raised(11))
 
     def test_bits(self):
         self.assertEqual([low_first(0), low_first(6), ones(0), ones(1), ones(6), ones(2 ** 300 + 1)],
