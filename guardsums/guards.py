@@ -55,11 +55,16 @@ class Guard:
                 raise BadSymbol(index)
         if len(block) > MOST_SYMBOLS:
             raise TooMany("symbols", len(block), MOST_SYMBOLS)
-        # One matrix for both: what it does to the state with the symbol behind it.
-        step = tuple([row + more for row, more in zip(self.matrix, self.columns)])
-        for symbol in block:
-            state = applied(self.modulus, step, state + symbol)
-        return state
+        return state_behind(self, block, state)
+
+
+def state_behind(guard, block, state):
+    """The state behind any number of symbols, if it is state ahead of them."""
+    # One matrix for both: what it does to the state with the symbol behind it.
+    step = tuple([row + more for row, more in zip(guard.matrix, guard.columns)])
+    for symbol in block:
+        state = applied(guard.modulus, step, state + symbol)
+    return state
 
 
 def check_modulus(modulus):

@@ -3,10 +3,12 @@
 from math import gcd, isqrt
 
 from guardsums.errors import BadModulus
-from guardsums.values import is_integer
+from guardsums.values import is_within
 
 MOST = 10 ** 12
-# Divisors are tried up to here: beyond the third root of MOST, so what is left then has two primes at most.
+# Numbers are taken apart up to here: prime powers up to 2 ** 40, less 1, are as well.
+GREATEST = 2 ** 40
+# Divisors are tried up to here: beyond the third root of GREATEST, so what is left then has two primes at most.
 TRIED = 20000
 # Below 2,152,302,898,747 no composite number is passed by all of these (Jaeschke, 1993).
 BASES = (2, 3, 5, 7, 11)
@@ -28,8 +30,42 @@ def inverse(number, modulus):
 
 def primes(number):
     """The tuple of the primes of an integer from 2 to 10 ** 12, ascending, each once."""
-    if not is_integer(number) or number < 2 or number > MOST:
+    if not is_within(number, 2, MOST):
         raise BadModulus(number)
+    return prime_parts(number)
+
+
+def prime_powers(number):
+    """For each prime of a number as in primes: the prime, and how often it divides the number."""
+    return tuple([(prime, exponent_of(number, prime)) for prime in primes(number)])
+
+
+def exponent_of(number, prime):
+    """How often the prime divides the number."""
+    exponent = 0
+    while number % prime == 0:
+        number = number // prime
+        exponent = exponent + 1
+    return exponent
+
+
+def raised_number(number, exponent):
+    """The number to the power of an exponent from 0 on."""
+    power = 1
+    for bit in f"{exponent:b}":
+        power = power * power
+        if bit == "1":
+            power = power * number
+    return power
+
+
+def is_prime(value):
+    """Whether any value is a prime up to 2 ** 40."""
+    return is_within(value, 2, GREATEST) and prime_parts(value) == (value,)
+
+
+def prime_parts(number):
+    """The tuple of the primes of an integer from 1 to 2 ** 40, ascending, each once."""
     found = []
     rest = without(number, 2, found)
     for divisor in range(3, TRIED, 2):
@@ -62,7 +98,7 @@ def great_primes(number):
 
 
 def is_great_prime(number):
-    """Whether an odd number from TRIED to MOST is a prime."""
+    """Whether an odd number from TRIED to GREATEST is a prime."""
     odd, halvings = number - 1, 0
     while odd % 2 == 0:
         odd = odd // 2

@@ -170,7 +170,7 @@ class Language(unittest.TestCase):
                         self.assertIn(node, spots, (name, node.lineno))
 
     def test_methods_and_attributes(self):
-        assigned, read = set(), {}
+        assigned, read, attributes = set(), {}, set()
         for name, tree in self.trees():
             for found in [node for node in tree.body if isinstance(node, ast.ClassDef)]:
                 methods = {node.name for node in found.body if isinstance(node, ast.FunctionDef)}
@@ -178,9 +178,13 @@ class Language(unittest.TestCase):
                        and isinstance(node.ctx, ast.Store)}
                 self.assertFalse(methods & own, (name, found.name))
                 assigned |= methods | own
+                attributes |= own
             for node in ast.walk(tree):
                 if isinstance(node, ast.Attribute) and isinstance(node.ctx, ast.Load):
                     read[node.attr] = name
+        # A method or an attribute may not have these names at all, or an attribute may not.
+        self.assertFalse(attributes & set("items keys values pop update append clear extend insert remove reverse "
+                                          "setdefault sort args encode decode hex fromhex format".split()))
         builtin = {word for value in ("", 0, [], {}, ()) for word in dir(value)} | {"__init__"}
         self.assertFalse({word: read[word] for word in read if word not in assigned | builtin})
 

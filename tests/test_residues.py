@@ -7,7 +7,8 @@ from math import gcd, isqrt
 from guardsums import residues
 from guardsums.errors import BadModulus
 from guardsums.ratios import Ratio
-from guardsums.residues import TRIED, inverse, primes
+from guardsums.residues import (TRIED, exponent_of, inverse, is_prime, prime_parts, prime_powers, primes,
+                                raised_number)
 
 FORTY = 10 ** 39 + 7
 
@@ -184,6 +185,46 @@ class Primes(unittest.TestCase):
 
     def test_equal_calls(self):
         self.assertEqual(primes(360), primes(360))
+
+
+class Parts(unittest.TestCase):
+    def test_prime_parts_up_to_the_greatest(self):
+        self.assertEqual([prime_parts(1), prime_parts(2 ** 40), prime_parts(2 ** 40 - 1)],
+                         [(), (2,), (3, 5, 11, 17, 31, 41, 61681)])
+        for number, wanted in ((2 ** 40 - 87, (2 ** 40 - 87,)), (1048573 ** 2, (1048573,)),
+                               (1048573 * 1048571, (1048571, 1048573)), (20011 * 54940027, None)):
+            self.assertEqual(prime_parts(number), wanted or by_trial(number))
+        for number in range(2 ** 40 - 60, 2 ** 40):
+            told, rest = prime_parts(number), number
+            for prime in told:
+                self.assertIs(is_prime(prime), True)
+                while rest % prime == 0:
+                    rest //= prime
+            self.assertEqual((rest, list(told)), (1, sorted(set(told))))
+
+    def test_products_of_great_primes(self):
+        known = [number for number in range(20000, 21000) if by_trial(number) == (number,)]
+        for least in known[::9]:
+            greatest = 2 ** 40 // least
+            while by_trial(greatest) != (greatest,):
+                greatest -= 1
+            self.assertEqual(prime_parts(least * greatest), (least, greatest))
+
+    def test_is_prime(self):
+        for number in range(-5, 500):
+            self.assertIs(is_prime(number), number > 1 and by_trial(number) == (number,))
+        for value in (True, None, "7", (7,), [7], Ratio(7), 2 ** 40, 2 ** 40 + 15, 2 ** 61 - 1, 10 ** 40 - 1):
+            self.assertIs(is_prime(value), False)
+
+    def test_powers(self):
+        self.assertEqual([prime_powers(360), prime_powers(2), prime_powers(10 ** 12)],
+                         [((2, 3), (3, 2), (5, 1)), ((2, 1),), ((2, 12), (5, 12))])
+        with self.assertRaises(BadModulus):
+            prime_powers(10 ** 12 + 1)
+        for number, prime, wanted in ((360, 2, 3), (360, 7, 0), (1, 2, 0), (3 ** 50, 3, 50)):
+            self.assertEqual(exponent_of(number, prime), wanted)
+        for number, exponent in ((3, 0), (3, 1), (10, 18), (7, 100), (1, 5), (0, 0), (0, 3)):
+            self.assertEqual(raised_number(number, exponent), number ** exponent)
 
 
 if __name__ == "__main__":
