@@ -10,8 +10,8 @@ class Alike:
     """Both guards tell the same for all blocks of the lengths first, first + step, first + 2 * step, .."""
 
     def __init__(self, one, other, first, step):
-        self.one = one
-        self.other = other
+        self.one = frozen(one)
+        self.other = frozen(other)
         self.first = frozen(first)
         self.step = frozen(step)
 
@@ -20,8 +20,8 @@ class Unlike:
     """The guards tell unlike things for a plain block, no block of a lesser one of these lengths being told apart."""
 
     def __init__(self, one, other, first, step, block):
-        self.one = one
-        self.other = other
+        self.one = frozen(one)
+        self.other = frozen(other)
         self.first = frozen(first)
         self.step = frozen(step)
         self.block = frozen(block)

@@ -169,6 +169,14 @@ class Language(unittest.TestCase):
                     if node.func.id in ("range", "zip", "enumerate", "reversed"):
                         self.assertIn(node, spots, (name, node.lineno))
 
+    def test_stars(self):
+        for name, tree in self.trees():
+            for node in ast.walk(tree):
+                if isinstance(node, ast.Call):
+                    for argument in node.args:
+                        if isinstance(argument, ast.Starred):
+                            self.assertIsInstance(argument.value, (ast.Name, ast.Attribute), (name, node.lineno))
+
     def test_methods_and_attributes(self):
         assigned, read, attributes = set(), {}, set()
         for name, tree in self.trees():
