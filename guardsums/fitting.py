@@ -7,7 +7,7 @@ from guardsums.howell import NoWay, Ways, count_ways, is_no_way, is_ways, soluti
 from guardsums.makers import remainder
 from guardsums.matrices import power, unit
 from guardsums.spans import Span
-from guardsums.values import frozen, is_list, is_row, is_symbol, is_within
+from guardsums.values import frozen, is_list, is_row, is_symbol, is_within, wrong_symbol
 
 MOST_SAMPLES = 64
 MOST_SYMBOLS = 1000
@@ -90,7 +90,7 @@ def is_sample(guard, value):
     block = value[0]
     if not is_list(block) or len(block) > MOST_SYMBOLS:
         return False
-    return all([is_symbol(symbol, guard.width, guard.modulus) for symbol in block])
+    return wrong_symbol(block, guard.width, guard.modulus) is None
 
 
 def equations(guard, samples):

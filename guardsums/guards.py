@@ -2,12 +2,17 @@
 
 from guardsums.errors import (BadColumns, BadEnd, BadMatrix, BadModulus, BadStart, BadState, BadSymbol, NotUndone,
                               TooMany)
-from guardsums.matrices import applied, undone
-from guardsums.values import is_list, is_symbol, is_within, wrong_number, wrong_row
+from guardsums.matrices import applied, product, undone
+from guardsums.values import is_list, is_within, wrong_number, wrong_row, wrong_symbol
 
 GREATEST_MODULUS = 10 ** 18
 MOST_NUMBERS = 16
 MOST_SYMBOLS = 10000
+# So many symbols are one group, doubled so often from one on. To make the step of a group takes about as long as
+# GROUP * c + DOUBLINGS * k symbols one by one; it is made for blocks of so many times as many.
+GROUP = 32
+DOUBLINGS = 5
+WORTH = 3
 
 
 class Guard:
@@ -50,9 +55,9 @@ class Guard:
         wrong = wrong_number(state, self.size, self.modulus)
         if wrong is not None:
             raise BadState(wrong)
-        for index, symbol in enumerate(block):
-            if not is_symbol(symbol, self.width, self.modulus):
-                raise BadSymbol(index)
+        wrong = wrong_symbol(block, self.width, self.modulus)
+        if wrong is not None:
+            raise BadSymbol(wrong)
         if len(block) > MOST_SYMBOLS:
             raise TooMany("symbols", len(block), MOST_SYMBOLS)
         return state_behind(self, block, state)
@@ -60,11 +65,36 @@ class Guard:
 
 def state_behind(guard, block, state):
     """The state behind any number of symbols, if it is state ahead of them."""
-    # One matrix for both: what it does to the state with the symbol behind it.
-    step = tuple([row + more for row, more in zip(guard.matrix, guard.columns)])
-    for symbol in block:
+    # Long blocks are read in groups, all symbols of one at once; the rest of them ahead, one by one.
+    alone = len(block)
+    if alone >= WORTH * (GROUP * guard.width + DOUBLINGS * guard.size):
+        alone = alone % GROUP
+    # One matrix for both: what it does to the state with the symbols behind it.
+    step = beside(guard.matrix, guard.columns)
+    for symbol in block[:alone]:
         state = applied(guard.modulus, step, state + symbol)
+    if alone == len(block):
+        return state
+    step = step_of_group(guard)
+    numbers = tuple([number for symbol in block[alone:] for number in symbol])
+    for at in range(0, len(numbers), GROUP * guard.width):
+        state = applied(guard.modulus, step, state + numbers[at:at + GROUP * guard.width])
     return state
+
+
+def step_of_group(guard):
+    """The matrix that takes a state and the numbers of a group of symbols behind it to the state behind them."""
+    ahead, columns = guard.matrix, guard.columns
+    for _ in range(DOUBLINGS):
+        # As many symbols again stand behind the first ones.
+        columns = beside(product(guard.modulus, ahead, columns), columns)
+        ahead = product(guard.modulus, ahead, ahead)
+    return beside(ahead, columns)
+
+
+def beside(one, other):
+    """Two matrices side by side."""
+    return tuple([row + more for row, more in zip(one, other)])
 
 
 def check_modulus(modulus):

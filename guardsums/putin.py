@@ -4,7 +4,7 @@ from guardsums.errors import BadSymbol
 from guardsums.guards import state_behind
 from guardsums.matrices import applied, product, transposed
 from guardsums.spans import Span
-from guardsums.values import frozen, is_matrix, is_symbol
+from guardsums.values import frozen, is_matrix, is_symbol, wrong_symbol
 
 
 class PutIn:
@@ -75,7 +75,7 @@ def is_put_in(told):
     guard, block, symbol = told.guard, told.block, told.symbol
     if not isinstance(block, tuple) or not is_symbol(symbol, guard.width, guard.modulus):
         return False
-    if not all([is_symbol(one, guard.width, guard.modulus) for one in block]):
+    if wrong_symbol(block, guard.width, guard.modulus) is not None:
         return False
     state = state_behind(guard, block, guard.start)
     return state_behind(guard, [symbol], state) == state

@@ -9,7 +9,7 @@ from guardsums.residues import primes, raised_number
 from guardsums.rounds import is_multiple, least_turns, round_of
 from guardsums.stairs import Stairs
 from guardsums.turns import Turns
-from guardsums.values import frozen, is_matrix, is_symbol, is_within
+from guardsums.values import frozen, is_matrix, is_within, wrong_symbol
 
 BURST = "burst"
 PAIR = "pair"
@@ -120,7 +120,7 @@ def is_unseen(unseen):
     check_kind(kind, size)
     if not isinstance(change, tuple) or len(change) != symbols_of(kind, size):
         return False
-    if not all([is_symbol(symbol, guard.width, guard.modulus) for symbol in change]):
+    if wrong_symbol(change, guard.width, guard.modulus) is not None:
         return False
     numbers = tuple([number for symbol in change for number in symbol])
     return any(numbers) and not any(applied(guard.modulus, mixing(guard, kind, size), numbers))

@@ -41,6 +41,18 @@ def is_symbol(value, width, modulus):
     return isinstance(value, tuple) and wrong_number(value, width, modulus) is None
 
 
+def wrong_symbol(block, width, modulus):
+    """The index of the first of a list that is no tuple of width numbers modulo M; None if none."""
+    # All that is_symbol asks, written out: blocks are long.
+    for index, symbol in enumerate(block):
+        if not isinstance(symbol, tuple) or len(symbol) != width:
+            return index
+        for number in symbol:
+            if not isinstance(number, int) or number is True or number is False or not 0 <= number < modulus:
+                return index
+    return None
+
+
 def is_row(value, size):
     """Whether any value is a tuple of so many integers."""
     return isinstance(value, tuple) and len(value) == size and all([is_integer(number) for number in value])

@@ -5,7 +5,7 @@ from guardsums.great import check_guard, told_of
 from guardsums.howell import NoWay, Ways, count_ways, is_no_way, is_ways, solutions
 from guardsums.matrices import transposed
 from guardsums.turns import Turns
-from guardsums.values import frozen, is_symbol, is_within
+from guardsums.values import frozen, is_symbol, is_within, wrong_symbol
 
 MOST_PLACES = 16
 
@@ -59,7 +59,7 @@ def is_granted(granted):
     symbols = granted.symbols
     if not isinstance(symbols, tuple) or len(symbols) != len(places):
         return False
-    if not all([is_symbol(symbol, guard.width, guard.modulus) for symbol in symbols]):
+    if wrong_symbol(symbols, guard.width, guard.modulus) is not None:
         return False
     changes = []
     for place, symbol in zip(places, symbols):

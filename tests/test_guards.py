@@ -1,5 +1,6 @@
 """Point 9: guards."""
 
+import time
 import unittest
 from unittest import mock
 
@@ -7,6 +8,7 @@ from guardsums import guards
 from guardsums.errors import (BadColumns, BadEnd, BadMatrix, BadModulus, BadStart, BadState, BadSymbol, NotUndone,
                               TooMany)
 from guardsums.guards import Guard
+from guardsums.makers import digits, pair
 from guardsums.matrices import identity
 from tests.support import any_values, chance, random_block, random_matrix, random_undoable, state_behind, told
 
@@ -205,6 +207,85 @@ class Telling(Guards):
         first = guard.told(block)
         self.assertEqual((guard.told(block), block), (first, [(1, 2, 3), (4, 5, 6)]))
         self.assertTrue(guard == Guard(*good()))
+
+
+class Long(Guards):
+    """Lists of up to 10,000 symbols, and those that are refused."""
+
+    def guards(self):
+        """A guard that sums up, and one of three numbers with symbols of three numbers."""
+        return [(pair(10, 3), (1,)), (Guard(12, [[1, 2, 0], [0, 5, 3], [0, 0, 7]], [[1, 0, 2], [0, 1, 0], [3, 0, 1]],
+                                            [1, 2, 3], [4, 5, 6]), (1, 2, 3))]
+
+    def test_all_lengths(self):
+        # Groups of symbols, and what is left of them ahead.
+        source = chance(2)
+        for modulus, size, width in ((10, 2, 1), (12, 3, 3), (2, 16, 1), (10 ** 18, 1, 2), (7, 1, 1)):
+            guard = Guard(modulus, random_undoable(source, modulus, size), random_matrix(source, modulus, size, width),
+                          random_matrix(source, modulus, 1, size)[0], random_matrix(source, modulus, 1, size)[0])
+            block = random_block(source, modulus, width, 700)
+            state = guard.start
+            for many, symbol in enumerate(block):
+                self.assertEqual(guard.behind(block[:many], guard.start), state)
+                state = state_behind(guard, [symbol], state)
+
+    def test_against_short_lists(self):
+        source = chance(3)
+        for guard, same in self.guards():
+            for block in (random_block(source, guard.modulus, guard.width, 10000), [same] * 10000):
+                for size in (1, 31, 100, 1000):
+                    state = guard.start
+                    for at in range(0, 10000, size):
+                        state = guard.behind(block[at:at + size], state)
+                    wanted = tuple((a + b) % guard.modulus for a, b in zip(state, guard.end))
+                    self.assertEqual(guard.told(block), wanted)
+                    self.assertEqual(guard.told(tuple(block)), wanted)
+                    self.assertEqual(guard.behind(block, guard.start), state)
+                self.assertEqual(guard.told(block[:9999]), told(guard, block[:9999]))
+
+    def test_by_hand(self):
+        # 3 and 10,000 ones; their sums: 3 * 10,000 + 10,000 * 10,001 / 2.
+        self.assertEqual(pair(65521, 3).told([(1,)] * 10000), (10003, (3 * 10000 + 10000 * 10001 // 2) % 65521))
+        self.assertEqual(pair(10).told([(1,)] * 10000), (0, 0))
+        self.assertEqual(digits(97, 10).told([(9,)] * 10000), ((pow(10, 10000, 97) - 1) % 97,))
+
+    def test_greatest_numbers(self):
+        modulus = 10 ** 18
+        guard = Guard(modulus, identity(16), [[modulus - 1] * 16] * 16, [modulus - 1] * 16, [0] * 16)
+        self.assertEqual(guard.told([(modulus - 1,) * 16] * 2000), ((16 * 2000 - 1) % modulus,) * 16)
+
+    def test_errors(self):
+        for guard, same in self.guards():
+            width = guard.width
+            wrong = any_values() + [(1,) * (width + 1), (1,) * (width - 1), list(same), (guard.modulus,) * width, (-1,) * width,
+                                    same[:-1] + (guard.modulus,), same[:-1] + (True,), (False,) + same[1:], (None,) * width]
+            for many in (10000, 10001):
+                for index in (0, many // 2, many - 1):
+                    for value in wrong:
+                        block = [same] * many
+                        block[index] = value
+                        self.raises(BadSymbol, {"index": index}, guard.told, block)
+                    # The first one counts, whatever stands behind it.
+                    block[many - 1] = None
+                    self.raises(BadSymbol, {"index": index}, guard.behind, block, guard.start)
+            for many in (10001, 10002, 20000):
+                fields = {"what": "symbols", "many": many, "most": 10000}
+                self.raises(TooMany, fields, guard.told, [same] * many)
+                self.raises(TooMany, fields, guard.behind, [same] * many, guard.start)
+                self.raises(BadState, {"index": 0}, guard.behind, [same] * many, (guard.modulus,) * guard.size)
+                self.raises(BadState, {"index": 0}, guard.behind, [None] * many, list(guard.start))
+
+    def test_many_calls_in_good_time(self):
+        blocks = [(guard, [same] * 10000, [same] * 10001) for guard, same in self.guards()]
+        ahead = time.process_time()
+        for _ in range(50):
+            for guard, let, refused in blocks:
+                guard.told(let)
+                guard.behind(let, guard.start)
+                with self.assertRaises(TooMany):
+                    guard.told(refused)
+        # About 0.8 seconds on the machine on which this was written, 3 where each symbol is reckoned by itself.
+        self.assertLess(time.process_time() - ahead, 3)
 
 
 if __name__ == "__main__":

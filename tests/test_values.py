@@ -4,7 +4,7 @@ import unittest
 
 from guardsums.ratios import Ratio
 from guardsums.values import (frozen, is_integer, is_list, is_matrix, is_row, is_same_matrix, is_symbol, is_within,
-                              wrong_number, wrong_row)
+                              wrong_number, wrong_row, wrong_symbol)
 from tests.support import any_values
 
 
@@ -41,6 +41,16 @@ class Lists(unittest.TestCase):
         for value in any_values() + [[1, 2], (1,), (1, 2, 3), (1, 5), (-1, 0), (True, 0)]:
             self.assertIs(is_symbol(value, 2, 5), False)
         self.assertIs(is_symbol((0, 4), 2, 5), True)
+
+    def test_blocks(self):
+        for value in any_values() + [[1, 2], (1,), (1, 2, 3), (1, 5), (-1, 0), (True, 0), (0, False), (None, 0), (0, (1,))]:
+            for index in range(3):
+                block = [(0, 4), (1, 2), (3, 3)]
+                block[index] = value
+                self.assertEqual(wrong_symbol(block, 2, 5), index)
+                self.assertEqual(wrong_symbol(tuple(block) + (None,), 2, 5), index)
+        self.assertIsNone(wrong_symbol([(0, 4), (1, 2), (3, 3)], 2, 5))
+        self.assertIsNone(wrong_symbol([], 2, 5))
 
     def test_rows_and_matrices_of_integers(self):
         self.assertEqual([is_row(value, 2) for value in ((1, -9), [1, 2], (1,), (1, True), (1, None), None)],
