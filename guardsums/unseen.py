@@ -172,9 +172,7 @@ def first_pair(guard, most):
     if not is_within(most, 1, MOST_PAIR):
         raise BadSize(most)
     columns = transposed(guard.columns)
-    if lost_row(guard.modulus, columns) is not None:
-        return 1
-    # The rows that take all columns to 0: with these, a symbol is kept unless another one can make up for it.
+    # The rows that take all columns to 0 keep of a symbol what no other one at the end of the pair can make up for.
     keepers = kernel_of(guard.modulus, columns)
     for size in range(1, most + 1):
         columns = [applied(guard.modulus, guard.matrix, column) for column in columns]
